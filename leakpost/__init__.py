@@ -1,0 +1,1 @@
+"""Machines that talk by rows out of which letters leak."""
