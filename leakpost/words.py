@@ -34,7 +34,15 @@ def spots(small, great):
 
 def within(small, great):
     """Whether the small word is left of the great one when some letters are struck out."""
-    return spots(small, great) is not None
+    if len(small) > len(great):
+        return False
+    at = 0
+    # As spots does, but without its list: searches ask this very often.
+    for letter in small:
+        at = great.find(letter, at) + 1
+        if at == 0:
+            return False
+    return True
 
 
 def behind(word, letter):
