@@ -3,6 +3,7 @@
 import itertools
 import random
 
+from leakpost.back import turned
 from leakpost.lab import Lab
 
 # One lab for most tests: two machines, two rows, a move of each act and more.
@@ -90,6 +91,12 @@ def granted(lab, wish, scene):
             and all(in_word(word, words[row]) for row, word in wish[1]))
 
 
+def next_layer(lab, layer):
+    """The layer behind the told one."""
+    told = [turned(lab, place, scene) for scene in layer for place in range(len(lab))]
+    return least_as_told(layer + [scene for scene in told if scene is not None])
+
+
 def fewest(lab, wishes, many):
     """The fewest moves, up to many, by which one of the wishes comes from the begin, or None."""
     level = lower(lab.begin())
@@ -131,4 +138,5 @@ def all_scenes(lab, *, letters="ab", long=2):
     """All scenes of the lab with words of at most so many letters."""
     words = ["".join(signs) for many in range(long + 1) for signs in itertools.product(letters, repeat=many)]
     stands = [lab.stands(name) for name, first in lab.machines()]
-    return [(at, held) for at in itertools.product(*stands) for held in itertools.product(words, repeat=len(lab.rows()))]
+    return [(at, held) for at in itertools.product(*stands)
+            for held in itertools.product(words, repeat=len(lab.rows()))]

@@ -7,7 +7,8 @@ from leakpost.back import Search, turned
 from leakpost.errors import BadScene, BadWish, Heavy, NoDeed, NoMove
 from leakpost.lab import Lab
 from leakpost.wishes import least_of
-from straight import all_scenes, any_lab, any_wishes, granted, leads, least_as_told, lies_above, lower, moved, post
+from straight import (
+    all_scenes, any_lab, any_wishes, granted, leads, least_as_told, lies_above, lower, moved, next_layer, post)
 
 BAD_SCENES = (
     ((), ()), (("go",), ("", "")), (("go", "stop"), ("",)), (("stop", "go"), ("", "")), (("go", "stop"), ("A", "")),
@@ -17,12 +18,6 @@ BAD_PLACES = (-1, 6, 400, -6, 10 ** 29)
 DOUBLE = Lab([("m", "e")], [("r", "")], [
     ("m", "bcde"[at // 2], ("take", "r", "xy"[at % 2]), "abcd"[at // 2]) for at in range(8)])
 TO_A = [((("m", "a"),), ())]
-
-
-def next_layer(lab, layer):
-    """The next layer, as the document says it."""
-    told = [turned(lab, place, scene) for scene in layer for place in range(len(lab))]
-    return least_as_told(layer + [scene for scene in told if scene is not None])
 
 
 class TestTurned(unittest.TestCase):

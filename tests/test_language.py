@@ -24,6 +24,11 @@ HOMES = {
     "moves.py": ("can", "done", "best", "ways", "leaked"),
     "wishes.py": ("grants", "least_of"),
     "back.py": ("turned", "Search"),
+    "runs.py": ("play", "count", "best_run"),
+    "answers.py": ("answer", "shows"),
+    "products.py": ("is_product", "holds", "inside", "plain", "sent", "taken", "swollen", "product_of",
+                    "product_text", "read_product"),
+    "ends.py": ("ends", "shows_goes"),
 }
 METHODS = {
     "Lab": ("__init__", "machines", "rows", "moves", "stands", "begin", "has", "__eq__", "__len__", "__repr__",
