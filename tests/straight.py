@@ -108,12 +108,12 @@ def fewest(lab, wishes, many):
     return None
 
 
-def any_lab(seed, *, moves=6, letters="ab", stands="pqr", most_word=3):
-    """A lab that the seed alone tells."""
+def any_lab(seed, *, moves=6, letters="ab", stands="pqr", most_word=3, most=2):
+    """A lab that the seed alone tells, of at most so many machines and so many rows."""
     chance = random.Random(seed)
-    machines = [(name, chance.choice(stands)) for name in ("one", "two", "three")[:chance.randint(1, 2)]]
+    machines = [(name, chance.choice(stands)) for name in ("one", "two", "three")[:chance.randint(1, most)]]
     rows = [(name, "".join(chance.choices(letters, k=chance.randint(0, most_word))))
-            for name in ("in", "out", "by")[:chance.randint(1, 2)]]
+            for name in ("in", "out", "by")[:chance.randint(1, most)]]
     told = []
     for each in range(moves):
         row, letter = chance.choice(rows)[0], chance.choice(letters)

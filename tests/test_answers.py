@@ -198,7 +198,7 @@ class TestAnswer(unittest.TestCase):
     def test_many_as_told(self):
         seen = set()
         for seed in range(120):
-            lab = any_lab(seed, moves=4 + seed % 9)
+            lab = any_lab(seed, moves=4 + seed % 9, most=2 + seed % 2)
             wishes = any_wishes(lab, seed + 31, most_word=4)
             for most, deep in ((60, 40), (400, 400), (3, 40), (60, 2), (8, 3)):
                 told = answer_as_told(lab, wishes, most, deep)
@@ -335,7 +335,8 @@ class TestToldSoon(unittest.TestCase):
 
     def test_labs_of_many_moves(self):
         for seed in range(60):
-            lab = any_lab(seed, moves=24, letters="abcdef"[:1 + seed % 6], stands="pqrstu"[:1 + seed % 5], most_word=8)
+            lab = any_lab(
+                seed, moves=24, letters="abcdef"[:1 + seed % 6], stands="pqrstu"[:1 + seed % 5], most_word=8, most=3)
             wishes = any_wishes(lab, seed, letters="abcdef", most_word=8)
             self.soon(lab, wishes)
             self.soon(lab, wishes, most=400, deep=400)

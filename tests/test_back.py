@@ -234,7 +234,7 @@ class TestSearch(unittest.TestCase):
 class TestLayersAsTold(unittest.TestCase):
     def test_many_labs(self):
         for seed in range(60):
-            lab = any_lab(seed, moves=8)
+            lab = any_lab(seed, moves=8, most=2 + seed % 2)
             wishes = any_wishes(lab, seed + 7)
             search = Search(lab, wishes, most=400)
             layer = search.layer(0)

@@ -180,7 +180,7 @@ class TestEnds(Asking):
     def test_many_as_told(self):
         seen = set()
         for seed in range(150):
-            lab = any_lab(seed, moves=3 + seed % 4, stands="pqrs", most_word=4)
+            lab = any_lab(seed, moves=3 + seed % 4, stands="pqrs", most_word=4, most=2 + seed % 2)
             for most in (0, 1, 2, 4, 6):
                 told = ends_as_told(lab, most)
                 seen.add(told)
