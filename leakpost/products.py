@@ -35,14 +35,17 @@ def check_letter(letter):
 
 def takes_in(great, small):
     """Whether the great atom is many and has all letters of the small one."""
-    return great[1] and all([letter in great[0] for letter in small[0]])
+    if not great[1]:
+        return False
+    # A loop, not a list of answers: covers ask this very often.
+    for letter in small[0]:
+        if letter not in great[0]:
+            return False
+    return True
 
 
-def holds(product, word):
-    """Whether the word is of the product; BadAtom, BadWord."""
-    check_product(product)
-    if not is_word(word):
-        raise BadWord()
+def has_word(product, word):
+    """Whether the word is of the product, both being what they should."""
     at = 0
     # Each atom takes as long a piece as it can: what is left then lies within all else that could be left.
     for letters, many in product:
@@ -54,19 +57,34 @@ def holds(product, word):
     return at == len(word)
 
 
+def holds(product, word):
+    """Whether the word is of the product; BadAtom, BadWord."""
+    check_product(product)
+    if not is_word(word):
+        raise BadWord()
+    return has_word(product, word)
+
+
+def lies_inside(one, other):
+    """Whether all words of the one are the other's, both being products."""
+    at = 0
+    # Each atom of the other one takes all that it can of the next atoms of the one, a single one just its like.
+    for atom in other:
+        if at == len(one):
+            return True
+        if atom[1]:
+            while at < len(one) and takes_in(atom, one[at]):
+                at += 1
+        elif one[at] == atom:
+            at += 1
+    return at == len(one)
+
+
 def inside(one, other):
     """Whether all words of the one product are the other's; BadAtom."""
     check_product(one)
     check_product(other)
-    at = 0
-    # Each atom of the other one takes all that it can of the next atoms of the one, a single one just its like.
-    for atom in other:
-        if atom[1]:
-            while at < len(one) and takes_in(atom, one[at]):
-                at += 1
-        elif one[at:at + 1] == (atom,):
-            at += 1
-    return at == len(one)
+    return lies_inside(one, other)
 
 
 def made_plain(atoms):
@@ -86,17 +104,20 @@ def plain(product):
     return made_plain(product)
 
 
+def with_letter(product, letter):
+    """The plain product with the letter behind the words of this one."""
+    return made_plain(product + ((letter, False),))
+
+
 def sent(product, letter):
     """The product with the letter sent behind its words, plain; BadAtom, BadWord."""
     check_product(product)
     check_letter(letter)
-    return made_plain(product + ((letter, False),))
+    return with_letter(product, letter)
 
 
-def taken(product, letter):
-    """What is left of the product behind such a letter, plain, or None; BadAtom, BadWord."""
-    check_product(product)
-    check_letter(letter)
+def left_behind(product, letter):
+    """The plain product of what is left behind such a letter, or None."""
     for at, (letters, many) in enumerate(product):
         if letter in letters:
             # A many atom may hold letters behind the one that is taken, too.
@@ -104,12 +125,24 @@ def taken(product, letter):
     return None
 
 
+def taken(product, letter):
+    """What is left of the product behind such a letter, plain, or None; BadAtom, BadWord."""
+    check_product(product)
+    check_letter(letter)
+    return left_behind(product, letter)
+
+
+def with_any(product, letters):
+    """The plain product with any word of the letters, a rising text, behind the words of this one."""
+    return made_plain(product + ((letters, True),)) if letters else made_plain(product)
+
+
 def swollen(product, letters):
     """The product with any word of the letters behind its words, plain; BadAtom, BadWord."""
     check_product(product)
     if not is_rising(letters):
         raise BadWord()
-    return made_plain(product + ((letters, True),)) if letters else made_plain(product)
+    return with_any(product, letters)
 
 
 def product_of(word):

@@ -2,6 +2,7 @@
 
 import itertools
 import random
+import re
 
 from leakpost.back import turned
 from leakpost.lab import Lab
@@ -108,6 +109,31 @@ def fewest(lab, wishes, many):
     return None
 
 
+def is_of(product, word):
+    """Whether the word can be cut into pieces of the atoms."""
+    cut = "".join(f"[{letters}]*" if many else f"{letters}?" for letters, many in product)
+    return re.fullmatch(cut, word) is not None
+
+
+def lies_in(one, other):
+    """Whether all words of the one are the other's.
+
+    Of a many atom each letter stands in the tried word so often that some atom of the other one has to take
+    all of them twice, and so takes any more of them, too.
+    """
+    tried = "".join(letters * (len(other) + 1) if many else letters for letters, many in one)
+    return is_of(other, tried)
+
+
+def is_plain(product):
+    """Whether no neighbour is taken in by the other one."""
+    for one, other in zip(product, product[1:]):
+        for small, great in ((one, other), (other, one)):
+            if great[1] and set(small[0]) <= set(great[0]):
+                return False
+    return True
+
+
 def any_lab(seed, *, moves=6, letters="ab", stands="pqr", most_word=3, most=2):
     """A lab that the seed alone tells, of at most so many machines and so many rows."""
     chance = random.Random(seed)
@@ -140,3 +166,19 @@ def all_scenes(lab, *, letters="ab", long=2):
     stands = [lab.stands(name) for name, first in lab.machines()]
     return [(at, held) for at in itertools.product(*stands)
             for held in itertools.product(words, repeat=len(lab.rows()))]
+
+
+def any_body(seed, *, rows=("in", "out"), letters="ab", most=24, deep=6):
+    """A body that the seed alone tells."""
+    chance = random.Random(seed)
+
+    def grown(parts, left):
+        if parts >= 3 and left > 1 and chance.random() < 0.8:
+            cut = chance.randint(1, parts - 2)
+            return (chance.choice(("then", "or")), grown(cut, left - 1), grown(parts - 1 - cut, left - 1))
+        if parts >= 2 and left > 1 and chance.random() < 0.8:
+            return ("again", grown(parts - 1, left - 1))
+        row, letter = chance.choice(rows), chance.choice(letters)
+        return chance.choice([("send", row, letter), ("take", row, letter), ("bare", row), ("skip",)])
+
+    return grown(chance.randint(1, most), deep)

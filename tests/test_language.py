@@ -29,6 +29,10 @@ HOMES = {
     "products.py": ("is_product", "holds", "inside", "plain", "sent", "taken", "swollen", "product_of",
                     "product_text", "read_product"),
     "ends.py": ("ends", "shows_goes"),
+    "cover.py": ("cover", "shuts", "lets"),
+    "pieces.py": ("pieces",),
+    "bodies.py": ("is_body", "parts", "body_text", "read_body"),
+    "compiled.py": ("compiled",),
 }
 METHODS = {
     "Lab": ("__init__", "machines", "rows", "moves", "stands", "begin", "has", "__eq__", "__len__", "__repr__",

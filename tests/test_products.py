@@ -1,12 +1,12 @@
 """Products of atoms: their words, which lies in which, and what becomes of them."""
 
 import itertools
-import re
 import unittest
 
 from leakpost.errors import BadAtom, BadText, BadWord
 from leakpost.products import (
     holds, inside, is_product, plain, product_of, product_text, read_product, sent, swollen, taken)
+from straight import is_of, is_plain, lies_in
 
 ATOMS = (("a", False), ("b", False), ("a", True), ("b", True), ("ab", True))
 MORE_ATOMS = ATOMS + (("c", False), ("bc", True), ("ac", True), ("abc", True))
@@ -24,31 +24,6 @@ NO_PRODUCTS = (
 NO_WORDS = ("A", "a b", "-", "a\n", "1", "ab*", " ")
 NO_LETTERS = ("", "ab", "aa", "A", "-", " ", "1", "*")
 NO_SETS = ("ba", "aa", "abb", "acb", "A", "a b", "-", "ab ", "1")
-
-
-def is_of(product, word):
-    """Whether the word can be cut into pieces of the atoms."""
-    cut = "".join(f"[{letters}]*" if many else f"{letters}?" for letters, many in product)
-    return re.fullmatch(cut, word) is not None
-
-
-def lies_in(one, other):
-    """Whether all words of the one are the other's.
-
-    Of a many atom each letter stands in the tried word so often that some atom of the other one has to take
-    all of them twice, and so takes any more of them, too.
-    """
-    tried = "".join(letters * (len(other) + 1) if many else letters for letters, many in one)
-    return is_of(other, tried)
-
-
-def is_plain(product):
-    """Whether no neighbour is taken in by the other one."""
-    for one, other in zip(product, product[1:]):
-        for small, great in ((one, other), (other, one)):
-            if great[1] and set(small[0]) <= set(great[0]):
-                return False
-    return True
 
 
 class Products(unittest.TestCase):
