@@ -33,11 +33,20 @@ HOMES = {
     "pieces.py": ("pieces",),
     "bodies.py": ("is_body", "parts", "body_text", "read_body"),
     "compiled.py": ("compiled",),
+    "labtext.py": ("lab_text", "read_lab"),
+    "bench.py": ("Bench",),
+    "pages.py": ("deed_text", "deed_of", "page", "bench_of"),
+    "desk.py": ("Desk",),
 }
 METHODS = {
     "Lab": ("__init__", "machines", "rows", "moves", "stands", "begin", "has", "__eq__", "__len__", "__repr__",
             "__str__"),
     "Search": ("__init__", "more", "layer", "since", "__len__"),
+    "Bench": (
+        "__init__", "lab", "drop", "machine", "row", "move", "strike", "load", "wish", "unwish", "many", "do", "undo",
+        "redo", "trial", "twin", "labs", "wishes", "lab_of", "wish_of", "ask", "found", "deeds", "undone", "__eq__",
+        "__len__", "__repr__"),
+    "Desk": ("__init__", "say"),
 }
 # Methods of builtin values that the package may call.
 CALLED = (
@@ -64,6 +73,7 @@ def bound(tree):
     """All names that are given a meaning in the tree but by imports."""
     names = [node.id for node in ast.walk(tree) if isinstance(node, ast.Name) and isinstance(node.ctx, ast.Store)]
     names += [node.arg for node in ast.walk(tree) if isinstance(node, ast.arg)]
+    names += [node.name for node in ast.walk(tree) if isinstance(node, ast.ExceptHandler) and node.name]
     return names + [node.name for node in tree.body if isinstance(node, (ast.FunctionDef, ast.ClassDef))]
 
 
@@ -204,6 +214,27 @@ class TestExpressions(unittest.TestCase):
                 self.assertIsInstance(node.body[-1], ast.Return, file)
                 for one in ast.walk(node):
                     self.assertNotIsInstance(one, (ast.Assign, ast.AugAssign, ast.Delete), f"{file}: {node.name}")
+
+    def test_tables_have_plain_values_and_functions_defined_above(self):
+        for file, tree in TREES.items():
+            for node in tree.body:
+                if isinstance(node, ast.Assign):
+                    above = [one.name for one in tree.body[:tree.body.index(node)] if isinstance(one, ast.FunctionDef)]
+                    for one in ast.walk(node.value):
+                        self.assertNotIsInstance(one, (ast.Call, ast.ListComp, ast.DictComp, ast.Attribute), file)
+                        if isinstance(one, ast.Name):
+                            self.assertIn(one.id, above, file)
+
+    def test_behind_a_star_stands_a_name(self):
+        for file, node in walk(ast.Starred):
+            self.assertIsInstance(node.value, ast.Name, file)
+        for file, node in walk(ast.Dict):
+            for key, value in zip(node.keys, node.values):
+                self.assertTrue(key is not None or isinstance(value, ast.Name), file)
+
+    def test_only_own_errors_are_caught(self):
+        for file, node in walk(ast.ExceptHandler):
+            self.assertIn(node.type.id, HOMES["errors.py"], file)
 
     def test_errors_are_made_where_they_are_raised(self):
         for file, node in walk(ast.Raise):
