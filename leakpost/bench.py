@@ -2,9 +2,8 @@
 
 from leakpost.answers import answer, shows
 from leakpost.back import MOST_DEEP, MOST_LIST
-from leakpost.bodies import rows_in
 from leakpost.compiled import compiled
-from leakpost.errors import BadDeed, BadName, Full, NoDeed, NoLab, NoMachine, NoMove, NoRow, NoWish, Taken
+from leakpost.errors import BadDeed, BadName, Full, NoDeed, NoLab, NoMachine, NoMove, NoWish, Taken
 from leakpost.lab import Lab
 from leakpost.wishes import check_wish
 from leakpost.words import is_name
@@ -91,12 +90,10 @@ def after_load(state, lab, machine, body):
     old = lab_in(state, lab)
     if machine not in old.machine_places:
         raise NoMachine()
-    for row in rows_in(body):
-        if row not in old.row_places:
-            raise NoRow()
     first, moves, last = compiled(machine, body)
     machines = [(name, first if name == machine else held) for name, held in old.machines()]
     others = [move for move in old.moves() if move[0] != machine]
+    # Each row of the body is named by a move, so Lab refuses NoRow, and Full behind it.
     return with_lab(state, lab, Lab(machines, old.rows(), others + moves))
 
 

@@ -64,11 +64,6 @@ def parts(body):
     return all_parts(body)
 
 
-def rows_in(body):
-    """The rows that the parts name, in the parts' order; BadBody."""
-    return [part[1] for part in parts(body) if is_single(part) and len(part) > 1]
-
-
 def text_of(thing):
     """The text of a body, or of a row or a letter in it."""
     if isinstance(thing, str):
