@@ -67,17 +67,18 @@ def holds(product, word):
 
 def lies_inside(one, other):
     """Whether all words of the one are the other's, both being products."""
+    size = len(one)
     at = 0
     # Each atom of the other one takes all that it can of the next atoms of the one, a single one just its like.
     for atom in other:
-        if at == len(one):
+        if at == size:
             return True
         if atom[1]:
-            while at < len(one) and takes_in(atom, one[at]):
+            while at < size and takes_in(atom, one[at]):
                 at += 1
         elif one[at] == atom:
             at += 1
-    return at == len(one)
+    return at == size
 
 
 def inside(one, other):
