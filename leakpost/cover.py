@@ -92,10 +92,11 @@ class Shelf:
 
     def swell(self, part):
         """The part with each row's product swollen."""
-        stands, numbers = part
+        stands, held = part
         if stands not in self.loops:
-            self.loops[stands] = [loop_letters(self.home, stands, row) for row in range(len(numbers))]
-        return (stands, tuple([self.after("swell", at, letters) for at, letters in zip(numbers, self.loops[stands])]))
+            self.loops[stands] = [loop_letters(self.home, stands, row) for row in range(len(held))]
+        letters = self.loops[stands]
+        return (stands, tuple([self.after("swell", at, letters[row]) for row, at in enumerate(held)]))
 
     def lies_in_any(self, part, others):
         """Whether the part lies in one of the others, all with the same stands."""
